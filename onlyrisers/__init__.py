@@ -1,0 +1,1 @@
+"""Onlyrisers: functions of switches that only rise."""

@@ -1,0 +1,45 @@
+"""What the tests are run over, made without the program."""
+
+from itertools import combinations
+
+BIG = 10 ** 30 - 1
+
+# None of these is a riser, a stand or stands apart, whatever the riser is.
+ODD_THINGS = [
+    None, True, False, 0, 1, 3, -1, BIG, -BIG, "", "0", "01", "3 : 0", "a" * 80,
+    [], [0], [(0,)], [3, ((0,),)], [()], {}, {0: 1}, {"many": 3}, {(): ()},
+    (None,), (True,), (False,), (True, False), ("0",), ("",), (-1,), (BIG,),
+    (0, "1"), ("1", 0), (0, None), (None, 0), (0, (1,)), ((1,), 0), (0, [1]),
+    (0, 1, "2"), ((0,), "1"), ((0,), None), ((0,), [1]), ([0], (1,)), ({}, ()),
+    ((), 3), (3, None, ()), ((((((((0,),),),),),),),), {"a": [({"b": [(None,)]},)]},
+]
+
+
+def stands_of(many):
+    """All stands of so many switches, by size."""
+    return [stand for size in range(many + 1) for stand in combinations(range(many), size)]
+
+
+def within(inner, outer):
+    return set(inner) <= set(outer)
+
+
+def rising_tables(many):
+    """The tables, of so many switches, that fall nowhere, made half by half."""
+    if many == 0:
+        return ["0", "1"]
+    halves = rising_tables(many - 1)
+    return [low + high for low in halves for high in halves
+            if all(a <= b for a, b in zip(low, high))]
+
+
+def place_of(stand):
+    return sum(2 ** switch for switch in stand)
+
+
+def riser_with(many, text):
+    """The riser with this table, by the very words: the least stands at which it holds."""
+    held = [stand for stand in stands_of(many) if text[place_of(stand)] == "1"]
+    least = [one for one in held
+             if not any(other != one and within(other, one) for other in held)]
+    return many, tuple(sorted(least))

@@ -1,6 +1,6 @@
 """Stands of switches, and the risers that are told by their least stands."""
 
-from onlyrisers.errors import NoRiser, NoStand
+from onlyrisers.errors import NoNumber, NoRiser, NoStand
 
 MOST_SWITCHES = 5
 
@@ -56,6 +56,22 @@ def are_apart_of(thing, many):
     return rises(thing) and not one_lies_within(thing)
 
 
+def together(one, other):
+    """The stand of all switches that are on in the one or in the other stand."""
+    return tuple(sorted(set(one + other)))
+
+
+def has_another_within(stand, stands):
+    """Whether another one of some stands lies within this stand."""
+    return any(one != stand and lies_within(one, stand) for one in stands)
+
+
+def least_of(stands):
+    """Those of some stands within which no other one lies: stands apart."""
+    unlike = sorted(set(stands))
+    return tuple([one for one in unlike if not has_another_within(one, unlike)])
+
+
 def is_riser(thing):
     """Whether a thing of whatever kind is a riser."""
     if not isinstance(thing, tuple) or len(thing) != 2:
@@ -68,6 +84,12 @@ def refuse_no_riser(thing):
     """Raise NoRiser if a thing of whatever kind is no riser."""
     if not is_riser(thing):
         raise NoRiser("this is no riser")
+
+
+def refuse_no_many(thing):
+    """Raise NoNumber if a thing of whatever kind is no number of switches, from 1 to 5."""
+    if not is_many(thing):
+        raise NoNumber("this is no number of switches from 1 to 5")
 
 
 def is_stand(thing, riser):

@@ -1,13 +1,26 @@
 import ast
 import os
 import unittest
+from inspect import signature
 
 import onlyrisers
-from onlyrisers import risers, tables
+from onlyrisers import bounds, joins, risers, tables, texts
 
 FOLDER = os.path.dirname(onlyrisers.__file__)
 LIBRARY = ("heapq", "math", "itertools", "collections", "__future__")
 SIGNS = {"\n"} | {chr(k) for k in range(32, 127)}
+
+INTERFACE = (
+    (risers, ("is_riser(thing)", "is_stand(thing, riser)", "are_apart(thing, riser)",
+              "holds(riser, stand)")),
+    (tables, ("table(riser)", "fall_of(text)", "riser_of(text)")),
+    (texts, ("show(riser)", "read(text)")),
+    (bounds, ("greatest(riser)", "by_greatest(many, high)", "mirror(riser)",
+              "is_paper(thing, many)")),
+    (joins, ("either(one, other)", "both(one, other)", "is_below(one, other)",
+             "held_on(riser, switch)", "held_off(riser, switch)", "mattering(riser)",
+             "named(riser, order)")),
+)
 
 
 def files():
@@ -22,11 +35,12 @@ def text_of(name):
 class Package(unittest.TestCase):
     """The interface's files, and what can be seen at once of the rules of the language."""
 
-    def test_each_function_is_defined_in_its_file(self):
-        for module, names in ((risers, ("is_riser", "is_stand", "are_apart", "holds")),
-                              (tables, ("table", "fall_of", "riser_of"))):
-            for name in names:
-                self.assertEqual(getattr(module, name).__module__, module.__name__)
+    def test_each_function_is_defined_in_its_file_with_its_arguments(self):
+        for module, told in INTERFACE:
+            for text in told:
+                function = getattr(module, text.partition("(")[0])
+                self.assertEqual(function.__module__, module.__name__)
+                self.assertEqual(function.__name__ + str(signature(function)), text)
 
     def test_the_folder_holds_files_of_python_alone(self):
         for name in files():

@@ -1,10 +1,10 @@
-import copy
 import unittest
 from itertools import combinations, permutations, product
 
 from onlyrisers.errors import NoRiser, NoStand
 from onlyrisers.risers import are_apart, holds, is_riser, is_stand
-from tests.making import BIG, ODD_THINGS, rising_tables, riser_with, stands_of, within
+from tests.asking import Asking
+from tests.making import BIG, NO_RISERS, ODD_THINGS, rising_tables, riser_with, stands_of, within
 
 RISER = (3, ((0,), (1, 2)))
 
@@ -194,7 +194,7 @@ class AreApart(unittest.TestCase):
             self.told(thing, False)
 
 
-class Holds(unittest.TestCase):
+class Holds(Asking):
     """[2], [11]: where a riser holds."""
 
     def test_at_all_stands_of_a_riser(self):
@@ -225,59 +225,35 @@ class Holds(unittest.TestCase):
     def test_no_stand(self):
         for thing in ODD_THINGS + [(True,), (0, True), [0], [], (3,), (0, 3), (-1, 0), (1, 0),
                                    (1, 1), RISER, ((0,),)]:
-            with self.subTest(thing=thing):
-                with self.assertRaises(NoStand) as caught:
-                    holds(RISER, thing)
-                self.assertIs(type(caught.exception), NoStand)
+            self.refused(NoStand, holds, RISER, thing)
 
     def test_no_stand_of_fewer_switches(self):
         for many in range(1, 6):
             for riser in ((many, ()), (many, ((),))):
-                with self.assertRaises(NoStand):
-                    holds(riser, (many,))
+                self.refused(NoStand, holds, riser, (many,))
 
 
-class Refusals(unittest.TestCase):
+class Refusals(Asking):
     """[5]: what is no riser is refused ahead of all else."""
 
-    WRONG = ODD_THINGS + [(0, ()), (6, ()), (True, ()), (3, []), [3, ()], (3, ((1, 0),)),
-                          (3, ((0,), (0, 1))), (3, ((1,), (0,))), (3, ((True,),)), (3, ((3,),))]
-
-    def refused(self, action, *things):
-        with self.subTest(things=things):
-            with self.assertRaises(NoRiser) as caught:
-                action(*things)
-            self.assertIs(type(caught.exception), NoRiser)
-
     def test_by_each_that_takes_one(self):
-        for riser in self.WRONG:
-            self.refused(is_stand, (0,), riser)
-            self.refused(are_apart, ((0,),), riser)
-            self.refused(holds, riser, (0,))
+        for riser in NO_RISERS:
+            self.refused(NoRiser, is_stand, (0,), riser)
+            self.refused(NoRiser, are_apart, ((0,),), riser)
+            self.refused(NoRiser, holds, riser, (0,))
 
     def test_ahead_of_what_else_is_wrong(self):
-        for riser in self.WRONG:
+        for riser in NO_RISERS:
             for thing in (None, [0], (True,), (9,), "0"):
-                self.refused(is_stand, thing, riser)
-                self.refused(are_apart, thing, riser)
-                self.refused(holds, riser, thing)
+                self.refused(NoRiser, is_stand, thing, riser)
+                self.refused(NoRiser, are_apart, thing, riser)
+                self.refused(NoRiser, holds, riser, thing)
 
 
-class NothingIsChanged(unittest.TestCase):
+class NothingIsChanged(Asking):
     """[4]: what is handed in stays as it is, and the same asked has the same answer."""
 
     THINGS = ODD_THINGS + [RISER, (3, [(0,)]), (3, ([1, 0],)), [(1,), (0,)], [2, 1], {"a": [2, 1]}]
-
-    def asked_twice(self, action, *things):
-        before = copy.deepcopy(things)
-        answers = []
-        for _ in range(2):
-            try:
-                answers.append(action(*things))
-            except ValueError as why:
-                answers.append(type(why))
-            self.assertEqual(repr(things), repr(before))
-        self.assertIs(answers[0], answers[1])
 
     def test_it_all(self):
         for thing in self.THINGS:

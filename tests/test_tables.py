@@ -1,11 +1,10 @@
-import copy
-import unittest
 from itertools import product
 
 from onlyrisers.errors import NoRise, NoRiser, NoText
 from onlyrisers.risers import holds, is_riser
 from onlyrisers.tables import fall_of, riser_of, table
-from tests.making import ODD_THINGS, place_of, rising_tables, riser_with, stands_of
+from tests.asking import Asking
+from tests.making import NO_RISERS, ODD_THINGS, place_of, rising_tables, riser_with, stands_of
 
 # Each written out by hand: riser and table.
 TOLD = [
@@ -42,15 +41,7 @@ WRONG_TEXTS = [
 ]
 
 
-class Told(unittest.TestCase):
-    def refused(self, error, action, *things):
-        with self.subTest(things=things):
-            with self.assertRaises(error) as caught:
-                action(*things)
-            self.assertIs(type(caught.exception), error)
-
-
-class Table(Told):
+class Table(Asking):
     """[12]: the table of a riser."""
 
     def test_written_out(self):
@@ -68,12 +59,11 @@ class Table(Told):
                 self.assertEqual(text[place_of(stand)], sign, (riser, stand))
 
     def test_no_riser(self):
-        for thing in ODD_THINGS + [(0, ()), (6, ()), (True, ()), (3, []), (3, ((1, 0),)),
-                                   (3, ((0,), (0, 1))), [3, ()]]:
+        for thing in NO_RISERS:
             self.refused(NoRiser, table, thing)
 
 
-class FallOf(Told):
+class FallOf(Asking):
     """[12]: the first fall of a text."""
 
     def test_texts_that_fall_nowhere(self):
@@ -119,7 +109,7 @@ class FallOf(Told):
             self.refused(NoText, fall_of, thing)
 
 
-class RiserOf(Told):
+class RiserOf(Asking):
     """[12]: the riser whose table a text is."""
 
     def test_written_out(self):
@@ -172,19 +162,8 @@ class RiserOf(Told):
             self.refused(NoText, riser_of, text)
 
 
-class NothingIsChanged(unittest.TestCase):
+class NothingIsChanged(Asking):
     """[4]: what is handed in stays as it is, and the same asked has the same answer."""
-
-    def asked_twice(self, action, thing):
-        before = copy.deepcopy(thing)
-        answers = []
-        for _ in range(2):
-            try:
-                answers.append(action(thing))
-            except ValueError as why:
-                answers.append(type(why))
-            self.assertEqual(repr(thing), repr(before))
-        self.assertEqual(answers[0], answers[1])
 
     def test_it_all(self):
         for thing in ODD_THINGS + WRONG_TEXTS + ["10", "00010110", ["0", "1"], (3, [(0,)])]:

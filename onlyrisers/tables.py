@@ -11,12 +11,16 @@ def switches_at(place, many):
     return tuple([switch for switch in range(many) if place >> switch & 1])
 
 
+def all_stands(many):
+    """All stands of so many switches, by their places in a table."""
+    return [switches_at(place, many) for place in range(1 << many)]
+
+
 def table(riser):
     """The table of the riser."""
     refuse_no_riser(riser)
     many, least = riser
-    stands = [switches_at(place, many) for place in range(1 << many)]
-    return "".join(["1" if holds_by(least, stand) else "0" for stand in stands])
+    return "".join(["1" if holds_by(least, stand) else "0" for stand in all_stands(many)])
 
 
 def refuse_no_table(text):

@@ -4,7 +4,7 @@ import unittest
 from inspect import signature
 
 import onlyrisers
-from onlyrisers import bounds, joins, risers, tables, texts
+from onlyrisers import asks, bounds, chains, counts, joins, risers, tables, texts
 
 FOLDER = os.path.dirname(onlyrisers.__file__)
 LIBRARY = ("heapq", "math", "itertools", "collections", "__future__")
@@ -20,6 +20,14 @@ INTERFACE = (
     (joins, ("either(one, other)", "both(one, other)", "is_below(one, other)",
              "held_on(riser, switch)", "held_off(riser, switch)", "mattering(riser)",
              "named(riser, order)")),
+    (counts, ("holds_many(riser)", "by_sizes(riser)", "decides(riser)", "all_risers(many)",
+              "between(one, other)")),
+    (chains, ("are_chains(thing, many)", "few_chains(many)", "fewest(many)",
+              "begins(riser, chains)", "riser_by(many, chains, numbers)")),
+    (asks, ("are_answers(thing, many)", "clash_of(many, answers)", "known(many, answers, stand)",
+            "open_stands(many, answers)", "least_fit(many, answers)",
+            "greatest_fit(many, answers)", "due_asks(riser)", "leaves_none(riser, stands)",
+            "asks_for(riser)")),
 )
 
 

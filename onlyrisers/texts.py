@@ -3,8 +3,8 @@
 from onlyrisers.errors import NoText
 from onlyrisers.risers import is_riser, refuse_no_riser
 
-# Each at its own place: no switch and no number of switches has another figure.
-FIGURES = ("0", "1", "2", "3", "4", "5")
+# Each at its own place.
+FIGURES = ("0", "1", "2", "3", "4", "5", "6", "7", "8", "9")
 NONE_ON = "-"
 
 

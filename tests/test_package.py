@@ -4,31 +4,12 @@ import unittest
 from inspect import signature
 
 import onlyrisers
-from onlyrisers import asks, bounds, chains, counts, joins, risers, tables, texts
+from onlyrisers import desk
+from tests.interface import INTERFACE
 
 FOLDER = os.path.dirname(onlyrisers.__file__)
 LIBRARY = ("heapq", "math", "itertools", "collections", "__future__")
 SIGNS = {"\n"} | {chr(k) for k in range(32, 127)}
-
-INTERFACE = (
-    (risers, ("is_riser(thing)", "is_stand(thing, riser)", "are_apart(thing, riser)",
-              "holds(riser, stand)")),
-    (tables, ("table(riser)", "fall_of(text)", "riser_of(text)")),
-    (texts, ("show(riser)", "read(text)")),
-    (bounds, ("greatest(riser)", "by_greatest(many, high)", "mirror(riser)",
-              "is_paper(thing, many)")),
-    (joins, ("either(one, other)", "both(one, other)", "is_below(one, other)",
-             "held_on(riser, switch)", "held_off(riser, switch)", "mattering(riser)",
-             "named(riser, order)")),
-    (counts, ("holds_many(riser)", "by_sizes(riser)", "decides(riser)", "all_risers(many)",
-              "between(one, other)")),
-    (chains, ("are_chains(thing, many)", "few_chains(many)", "fewest(many)",
-              "begins(riser, chains)", "riser_by(many, chains, numbers)")),
-    (asks, ("are_answers(thing, many)", "clash_of(many, answers)", "known(many, answers, stand)",
-            "open_stands(many, answers)", "least_fit(many, answers)",
-            "greatest_fit(many, answers)", "due_asks(riser)", "leaves_none(riser, stands)",
-            "asks_for(riser)")),
-)
 
 
 def files():
@@ -49,6 +30,11 @@ class Package(unittest.TestCase):
                 function = getattr(module, text.partition("(")[0])
                 self.assertEqual(function.__module__, module.__name__)
                 self.assertEqual(function.__name__ + str(signature(function)), text)
+
+    def test_the_desk_is_made_of_nothing_and_told_lines(self):
+        self.assertEqual(desk.Desk.__module__, "onlyrisers.desk")
+        self.assertEqual(str(signature(desk.Desk)), "()")
+        self.assertEqual(str(signature(vars(desk.Desk)["say"])), "(self, line)")
 
     def test_the_folder_holds_files_of_python_alone(self):
         for name in files():
